@@ -5,6 +5,7 @@ import (
 	"errors"
 
 	"veil/api"
+	"veil/frame"
 	"veil/syntax"
 )
 
@@ -41,10 +42,10 @@ func errnoOf(err error) api.Errno {
 }
 
 // Pack makes a frame of a payload (P5).
-func Pack(payload string) string { return "" }
+func Pack(payload string) string { return frame.Pack(payload) }
 
 // Unpack takes frames apart (P5).
-func Unpack(bytes string) ([]string, int, bool) { return nil, 0, false }
+func Unpack(bytes string) ([]string, int, bool) { return frame.Unpack(bytes) }
 
 // Server has tables, rules, and sessions.
 type Server struct{}
