@@ -45,6 +45,7 @@ func ReadSchema(text string) (Schema, error) {
 	return schema, nil
 }
 
+// readTable copies the name, as a schema may be kept when the text is not.
 func readTable(text string) (Table, error) {
 	if strings.Count(text, " ") > api.MaxColumns {
 		return Table{}, schemaFault("too many columns")
@@ -54,7 +55,7 @@ func readTable(text string) (Table, error) {
 		return Table{}, schemaFault("no name")
 	}
 	types, err := readTypes(words[1:])
-	return Table{Name: words[0], Types: types}, err
+	return Table{Name: strings.Clone(words[0]), Types: types}, err
 }
 
 func readTypes(words []string) ([]Type, error) {

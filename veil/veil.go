@@ -6,6 +6,7 @@ import (
 
 	"veil/api"
 	"veil/frame"
+	"veil/graph"
 	"veil/syntax"
 )
 
@@ -48,22 +49,82 @@ func Pack(payload string) string { return frame.Pack(payload) }
 func Unpack(bytes string) ([]string, int, bool) { return frame.Unpack(bytes) }
 
 // Server has tables, rules, and sessions.
-type Server struct{}
+type Server struct {
+	schema   syntax.Schema
+	room     int
+	graph    *graph.Graph
+	sessions [api.MaxSessions]*session // nil: not open
+}
 
-// New makes a server (P6).
-func New(schema string, share bool, room int) (*Server, api.Errno) { return nil, api.OK }
+// New makes a server (P6). What share is can only be seen by Nodes (P15), which is not built yet.
+func New(schema string, share bool, room int) (*Server, api.Errno) {
+	tables, err := syntax.ReadSchema(schema)
+	if err != nil {
+		return nil, errnoOf(err)
+	}
+	if room < 1 || room > api.MaxRoom {
+		return nil, api.ErrRoom
+	}
+	return &Server{schema: tables, room: room, graph: graph.New(tables)}, api.OK
+}
 
 // Open opens a session (P7).
-func (s *Server) Open(session int, who string) api.Errno { return api.OK }
+func (s *Server) Open(session int, who string) api.Errno {
+	if !isSession(session) || s.sessions[session] != nil {
+		return api.ErrSession
+	}
+	if !syntax.IsName(who) {
+		return api.ErrName
+	}
+	s.sessions[session] = newSession(who)
+	return api.OK
+}
 
 // Close closes a session (P7).
-func (s *Server) Close(session int) api.Errno { return api.OK }
+func (s *Server) Close(session int) api.Errno {
+	closed := s.open(session)
+	if closed == nil {
+		return api.ErrSession
+	}
+	closed.endAll()
+	s.sessions[session] = nil
+	return api.OK
+}
 
 // Feed hands a session's bytes in (P8).
-func (s *Server) Feed(session int, bytes string) api.Errno { return api.OK }
+func (s *Server) Feed(session int, bytes string) api.Errno {
+	from := s.open(session)
+	if from == nil {
+		return api.ErrSession
+	}
+	requests, broken := from.take(bytes)
+	for _, request := range requests {
+		s.answer(from, request)
+	}
+	if broken {
+		from.breakOff()
+	}
+	return api.OK
+}
 
 // Drain takes a session's frames out (P9).
-func (s *Server) Drain(session int, most int) (string, api.Errno) { return "", api.OK }
+func (s *Server) Drain(session int, most int) (string, api.Errno) {
+	to := s.open(session)
+	if to == nil {
+		return "", api.ErrSession
+	}
+	return to.drain(most), api.OK
+}
 
 // Nodes tells how many nodes there are (P15).
 func (s *Server) Nodes() int { return 0 }
+
+func isSession(number int) bool { return number >= 0 && number < api.MaxSessions }
+
+// open is the session of that number, or nil if it is not open.
+func (s *Server) open(number int) *session {
+	if !isSession(number) {
+		return nil
+	}
+	return s.sessions[number]
+}
