@@ -5,29 +5,39 @@ import (
 	"veil/syntax"
 )
 
-// holds tells whether a condition of a view of who holds for a row of these columns.
-func holds(c *syntax.Condition, who rows.Row, columns []rows.Row) bool {
+// asker is who asks conditions of rows.
+type asker struct {
+	name  rows.Row
+	looks []*look // for each `in` one, which stand in rules alone
+}
+
+func newAsker(who string) asker { return asker{name: rows.Text(who)} }
+
+// holds tells whether a condition holds for a row of these columns.
+func (a *asker) holds(c *syntax.Condition, columns []rows.Row) bool {
 	switch c.Test {
 	case syntax.Equal:
-		return columns[c.Column] == wanted(c, who)
+		return columns[c.Column] == a.wanted(c)
 	case syntax.Less:
 		return columns[c.Column] < rows.Of(c.Value)
 	case syntax.Same:
 		return columns[c.Column] == columns[c.Other]
 	case syntax.Not:
-		return !holds(c.Parts[0], who, columns)
+		return !a.holds(c.Parts[0], columns)
 	case syntax.And:
-		return holds(c.Parts[0], who, columns) && holds(c.Parts[1], who, columns)
+		return a.holds(c.Parts[0], columns) && a.holds(c.Parts[1], columns)
 	case syntax.Or:
-		return holds(c.Parts[0], who, columns) || holds(c.Parts[1], who, columns)
+		return a.holds(c.Parts[0], columns) || a.holds(c.Parts[1], columns)
+	case syntax.In:
+		return findLook(a.looks, c).finds(columns[c.Column])
 	}
 	return true
 }
 
 // wanted is what a condition asks a column to be.
-func wanted(c *syntax.Condition, who rows.Row) rows.Row {
+func (a *asker) wanted(c *syntax.Condition) rows.Row {
 	if c.Me {
-		return who
+		return a.name
 	}
 	return rows.Of(c.Value)
 }

@@ -32,6 +32,15 @@ func read(t testing.TB, text string) *syntax.View {
 	return view
 }
 
+func law(t testing.TB, text string) syntax.Law {
+	t.Helper()
+	read, err := syntax.ReadLaw(home(t), text)
+	if err != nil {
+		t.Fatalf("%q: %v", text, err)
+	}
+	return read
+}
+
 func doc(number int64, text string) rows.Row { return rows.Number(number) + rows.Text(text) }
 
 func pair(first, second string) rows.Row { return rows.Text(first) + rows.Text(second) }
@@ -53,7 +62,7 @@ func TestOnlyChangesGoThrough(t *testing.T) {
 		"sum 1 - all docs":                  "; -1 465; +1 468",
 		"join 1 1 all docs pick 1 all docs": "; +3 3 'a' 3",
 	} {
-		g := New(home(t))
+		g := New(home(t), true)
 		for i := range 31 {
 			g.Change(docs, doc(int64(i), "a"), 1)
 		}
@@ -87,7 +96,7 @@ func (m *meeting) change(int, rows.Bag) {
 }
 
 func TestEachOneHasAGoroutine(t *testing.T) {
-	g := New(home(t))
+	g := New(home(t), true)
 	a, b := make(chan int), make(chan int)
 	first, second := &meeting{own: a, other: b}, &meeting{own: b, other: a}
 	g.tables[docs].addUse(use{who: "ann", by: first})
@@ -100,7 +109,7 @@ func TestEachOneHasAGoroutine(t *testing.T) {
 
 // Probes of one person write to one list without a lock: the race detector tells if they do so side by side.
 func TestOneGoroutineForAllViewsOfOne(t *testing.T) {
-	g := New(home(t))
+	g := New(home(t), true)
 	p := &probe{}
 	for i := range 100 {
 		g.tables[docs].addUse(use{who: "ann", by: p, part: i})
@@ -112,7 +121,7 @@ func TestOneGoroutineForAllViewsOfOne(t *testing.T) {
 }
 
 func TestAllGoroutinesHaveEnded(t *testing.T) {
-	g := New(home(t))
+	g := New(home(t), true)
 	for i := range 8 {
 		g.View("who"+strconv.Itoa(i), read(t, "count - all docs"))
 	}
@@ -131,59 +140,74 @@ func TestAllGoroutinesHaveEnded(t *testing.T) {
 }
 
 func TestNodes(t *testing.T) {
-	g := New(home(t))
-	if g.node(api.Root, read(t, "all docs")) != node(g.tables[docs]) {
-		t.Error("root's table is not the table itself")
-	}
-	if g.node("ann", read(t, "all docs")) == node(g.tables[docs]) {
-		t.Error("one who is not root has the table itself")
+	for _, share := range []bool{true, false} {
+		g := New(home(t), share)
+		if g.node(api.Root, read(t, "all docs")) != node(g.tables[docs]) {
+			t.Error("root's table is not the table itself")
+		}
+		if g.node("ann", read(t, "all docs")) == node(g.tables[docs]) {
+			t.Error("one who is not root has the table itself")
+		}
+		for _, text := range []string{"all docs", "keep any all docs", "join 1 1 all docs all docs"} {
+			if same := g.node("ann", read(t, text)) == g.node("ann", read(t, text)); same != share {
+				t.Errorf("%q has one node: %v", text, same)
+			}
+			if g.node("ann", read(t, text)) == g.node("bob", read(t, text)) {
+				t.Errorf("%q: two have one node", text)
+			}
+		}
 	}
 }
 
 func TestEndedViewsLeaveNothing(t *testing.T) {
-	g := New(home(t))
-	var views []*View
 	texts := []string{"all docs", "keep any all docs", "join 2 1 keep any all docs all team", "both all docs all docs", "count 1 sum 1 2 join 1 1 all docs pick 1 all docs", "all docs"}
-	for _, text := range texts {
-		views = append(views, g.View(api.Root, read(t, text)), g.View("ann", read(t, text)))
-	}
-	uses := len(g.tables[docs].uses)
-	for i, view := range views {
-		if g.tables[docs].unused() {
-			t.Errorf("view %d and those behind it are not told of changes any more", i)
+	for _, share := range []bool{true, false} {
+		g := New(home(t), share)
+		g.Rule(law(t, "allow docs in 2 team 1 2"))
+		var views []*View
+		for _, text := range texts {
+			views = append(views, g.View(api.Root, read(t, text)), g.View("ann", read(t, text)))
 		}
-		view.End()
-		g.Change(docs, doc(int64(i), "a"), 1)
-		if len(g.tables[docs].uses) >= uses {
-			t.Errorf("view %d is told of changes still", i)
+		uses := len(g.tables[docs].uses)
+		for i, view := range views {
+			if g.tables[docs].unused() {
+				t.Errorf("view %d and those behind it are not told of changes any more", i)
+			}
+			view.End()
+			g.Change(docs, doc(int64(i), "a"), 1)
+			if len(g.tables[docs].uses) >= uses && !share {
+				t.Errorf("view %d is told of changes still", i)
+			}
+			uses = len(g.tables[docs].uses)
 		}
-		uses = len(g.tables[docs].uses)
-	}
-	if !g.tables[docs].unused() || !g.tables[team].unused() {
-		t.Errorf("uses are left: %d, %d", len(g.tables[docs].uses), len(g.tables[team].uses))
+		if !g.tables[docs].unused() || !g.tables[team].unused() || g.Nodes() != 2 {
+			t.Errorf("uses are left: %d, %d, of %d nodes", len(g.tables[docs].uses), len(g.tables[team].uses), g.Nodes())
+		}
 	}
 }
 
 func TestANodeStaysWhileOneUsesIt(t *testing.T) {
-	g := New(home(t))
+	g := New(home(t), true)
 	n := g.node(api.Root, read(t, "keep any pick 1 all docs"))
 	first, second := &probe{}, &probe{}
 	n.addUse(use{who: api.Root, by: first})
 	n.addUse(use{who: api.Root, by: second})
-	release(n, first)
+	n.addUse(use{who: api.Root, by: second, part: 1})
+	g.release(n, first, 0)
+	g.release(n, second, 1)
 	g.Change(docs, doc(1, "a"), 1)
 	if len(first.told) != 0 || len(second.told) != 1 {
 		t.Errorf("told %d and %d times", len(first.told), len(second.told))
 	}
-	release(n, second)
-	if !g.tables[docs].unused() {
-		t.Error("the table is used still")
+	g.release(n, second, 0)
+	if !g.tables[docs].unused() || g.Nodes() != 2 {
+		t.Errorf("the table is used still, or %d nodes are left", g.Nodes())
 	}
 }
 
 // What a join and a group no longer need is not kept either.
 func TestEmptyTablesLeaveNothing(t *testing.T) {
-	g := New(home(t))
+	g := New(home(t), true)
 	joined := g.node(api.Root, read(t, "join 2 1 all docs all team")).(*join)
 	counted := g.node(api.Root, read(t, "count 1 all docs")).(*count)
 	summed := g.node(api.Root, read(t, "sum 1 2 all docs")).(*sum)
@@ -202,7 +226,7 @@ func TestEmptyTablesLeaveNothing(t *testing.T) {
 }
 
 func TestWhatWasToldIsNotToldAgain(t *testing.T) {
-	g := New(home(t))
+	g := New(home(t), true)
 	g.Change(docs, doc(1, "a"), 1)
 	v := g.View(api.Root, read(t, "all docs"))
 	want := func(changed bool, text string) {
@@ -230,7 +254,7 @@ func TestWhatWasToldIsNotToldAgain(t *testing.T) {
 }
 
 func TestTables(t *testing.T) {
-	g := New(home(t))
+	g := New(home(t), true)
 	g.Change(docs, doc(1, "a"), 1)
 	g.Change(docs, doc(1, "a"), 1)
 	g.Change(docs, doc(2, "a"), 1)
@@ -259,7 +283,7 @@ func TestChangesComeToWhatAViewIs(t *testing.T) {
 		"join 1 1 count - all docs sum 1 - all docs",
 	}
 	random := rand.New(rand.NewSource(1))
-	g := New(home(t))
+	g := New(home(t), false)
 	var views []*View
 	for _, text := range texts {
 		views = append(views, g.View(api.Root, read(t, text)))

@@ -5,12 +5,11 @@ import (
 	"veil/syntax"
 )
 
-// newNode makes the node of a view's operator, which is none of a table.
-func newNode(who string, view *syntax.View, parts []node) node {
-	own := newCommon(parts...)
+// newOperator makes the node of a view's operator, which is another than `all`.
+func newOperator(who string, view *syntax.View, own common) node {
 	switch view.Operator {
 	case syntax.Keep:
-		return &keep{common: own, condition: view.Condition, who: rows.Text(who)}
+		return &keep{common: own, condition: view.Condition, asker: newAsker(who)}
 	case syntax.Pick:
 		return &pick{common: own, columns: view.Columns}
 	case syntax.Join:
@@ -26,13 +25,13 @@ func newNode(who string, view *syntax.View, parts []node) node {
 type keep struct {
 	common
 	condition *syntax.Condition
-	who       rows.Row
+	asker     asker
 }
 
 func (n *keep) change(_ int, change rows.Bag) {
 	kept := rows.Bag{}
 	for row, times := range change {
-		if holds(n.condition, n.who, row.Columns()) {
+		if n.asker.holds(n.condition, row.Columns()) {
 			kept.Add(row, times)
 		}
 	}

@@ -4,6 +4,7 @@ import (
 	"slices"
 
 	"veil/rows"
+	"veil/syntax"
 )
 
 // user is who uses a node, and is told each change of what it holds.
@@ -18,8 +19,12 @@ type node interface {
 	held() rows.Bag
 	over() []node
 	addUse(u use)
-	dropUser(by user)
+	dropUse(by user, part int)
 	unused() bool
+	// takeLaw hands a new law over, and tells whether what the node holds is to be worked out anew.
+	takeLaw(law syntax.Law, tables []*table) bool
+	// workOut works out anew what the node holds, and tells all who use it how that has changed.
+	workOut()
 }
 
 // use is one place at which a node is used.
@@ -46,8 +51,8 @@ func (c *common) over() []node { return c.parts }
 
 func (c *common) addUse(u use) { c.uses = append(c.uses, u) }
 
-func (c *common) dropUser(by user) {
-	c.uses = slices.DeleteFunc(c.uses, func(u use) bool { return u.by == by })
+func (c *common) dropUse(by user, part int) {
+	c.uses = slices.DeleteFunc(c.uses, func(u use) bool { return u.by == by && u.part == part })
 }
 
 func (c *common) unused() bool { return len(c.uses) == 0 }
@@ -58,30 +63,21 @@ func (c *common) pass(change rows.Bag) {
 		return
 	}
 	c.bag.AddAll(change)
-	tell(c.uses, change)
-}
-
-func tell(uses []use, change rows.Bag) {
-	for _, u := range uses {
+	for _, u := range c.uses {
 		u.by.change(u.part, change)
 	}
 }
+
+// takeLaw: rules are nothing to nodes of most kinds.
+func (c *common) takeLaw(syntax.Law, []*table) bool { return false }
+
+// workOut: nor is there anything to work out anew for them.
+func (c *common) workOut() {}
 
 // connect lays a new node over its parts. It holds nothing so far: all that they hold is a change for it.
 func connect(who string, n node) {
 	for i, part := range n.over() {
 		n.change(i, part.held())
 		part.addUse(use{who: who, by: n, part: i})
-	}
-}
-
-// release takes a user from a node. A node that nobody uses any more lets its own parts go.
-func release(n node, by user) {
-	n.dropUser(by)
-	if !n.unused() {
-		return
-	}
-	for _, part := range n.over() {
-		release(part, n)
 	}
 }

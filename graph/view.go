@@ -4,6 +4,7 @@ import "veil/rows"
 
 // View is a view of someone, over the nodes of its operators.
 type View struct {
+	graph   *Graph
 	top     node
 	changed rows.Bag // since it was told last
 }
@@ -28,4 +29,4 @@ func (v *View) Change() string {
 }
 
 // End lets the nodes go that only this view uses.
-func (v *View) End() { release(v.top, v) }
+func (v *View) End() { v.graph.release(v.top, v, 0) }

@@ -27,6 +27,13 @@ func (b Bag) AddAll(other Bag) {
 	}
 }
 
+// TakeAll takes all rows of another bag from a bag.
+func (b Bag) TakeAll(other Bag) {
+	for row, times := range other {
+		b.Add(row, -times)
+	}
+}
+
 // Size is how many rows there are, each as often as it is there.
 func (b Bag) Size() int64 {
 	size := int64(0)

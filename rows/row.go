@@ -47,6 +47,15 @@ func Text(text string) Row {
 	return Row(textMark + text + textEnd)
 }
 
+// Joined lays rows one behind the other.
+func Joined(parts []Row) Row {
+	joined := Row("")
+	for _, part := range parts {
+		joined += part
+	}
+	return joined
+}
+
 // Columns takes a row apart.
 func (r Row) Columns() []Row {
 	var columns []Row

@@ -118,6 +118,20 @@ func TestAdd(t *testing.T) {
 	if bag.Size() != 7 {
 		t.Errorf("the size of %v is %d", bag, bag.Size())
 	}
+	bag.TakeAll(Bag{"a": 2, "b": 3, "d": -1})
+	if len(bag) != 2 || bag["b"] != -3 || bag["d"] != 6 {
+		t.Errorf("%v", bag)
+	}
+}
+
+func TestJoined(t *testing.T) {
+	row := Of(number(-5), text(""), text("ab"), number(7))
+	if got := Joined(row.Columns()); got != row {
+		t.Errorf("%q, want %q", got, row)
+	}
+	if got := Joined(nil); got != "" {
+		t.Errorf("%q", got)
+	}
 }
 
 func TestText(t *testing.T) {

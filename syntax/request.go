@@ -12,11 +12,12 @@ type Request struct {
 	Number int    // sub, end: of the subscription
 	Table  string // put, del: the word that is to be a table's name
 	Rest   string // sub: the view; put, del: the values; law: the rules
+	Bare   bool   // law: nothing is behind it, not even a blank
 }
 
 // ReadRequest reads a request.
 func ReadRequest(text string) (Request, error) {
-	word, rest, _ := strings.Cut(text, " ")
+	word, rest, more := strings.Cut(text, " ")
 	switch word {
 	case "sub", "end":
 		return readNumbered(word, rest)
@@ -24,7 +25,7 @@ func ReadRequest(text string) (Request, error) {
 		table, values, _ := strings.Cut(rest, " ")
 		return Request{Word: word, Table: table, Rest: values}, nil
 	case "law":
-		return Request{Word: word, Rest: rest}, nil
+		return Request{Word: word, Rest: rest, Bare: !more}, nil
 	}
 	return Request{}, requestFault(1, "no request")
 }
@@ -42,6 +43,14 @@ func readNumbered(word, text string) (Request, error) {
 
 func requestFault(word int, what string) error {
 	return &Place{Part: "word", Number: word, Err: &Fault{Errno: api.ErrRequest, What: what}}
+}
+
+// Law reads the rules of a request. For no rules nothing may be behind its word: a blank alone is no law.
+func (r Request) Law(schema Schema) (Law, error) {
+	if r.Rest == "" && !r.Bare {
+		return nil, lawFault("a blank, and no rules")
+	}
+	return ReadLaw(schema, r.Rest)
 }
 
 // ReadRow reads a row of these types. One of another number of words is refused ahead of being taken apart, as a text may be of any size.

@@ -22,11 +22,46 @@ func TestReadRequest(t *testing.T) {
 		"put docs 1 'x'":    {Word: "put", Table: "docs", Rest: "1 'x'"},
 		"del docs  1":       {Word: "del", Table: "docs", Rest: " 1"},
 		"put  docs":         {Word: "put", Rest: "docs"},
-		"law":               {Word: "law"},
+		"law":               {Word: "law", Bare: true},
+		"law ":              {Word: "law"},
 		"law allow t any; ": {Word: "law", Rest: "allow t any; "},
 	} {
 		if got, err := ReadRequest(text); got != want || err != nil {
 			t.Errorf("ReadRequest(%q) = %v, %v, want %v", text, got, err, want)
+		}
+	}
+}
+
+func TestTheLawOfARequest(t *testing.T) {
+	schema := homeSchema(t)
+	for text, words := range map[string]string{
+		"law":                               "",
+		"law allow docs any":                "allow docs any;",
+		"law allow docs any;allow team any": "allow docs any;",
+		"law allow team any":                "",
+	} {
+		request, err := ReadRequest(text)
+		if err != nil {
+			t.Fatal(err)
+		}
+		if law, err := request.Law(schema); err != nil || len(law) != 2 || law[0].Words != words {
+			t.Errorf("%q: %v, %v", text, law, err)
+		}
+	}
+	for text, where := range map[string]string{
+		"law ":                "a blank, and no rules",
+		"law  ":               "rule 1: word 1: no rule",
+		"law  allow docs any": "rule 1: word 1: no rule",
+		"law allow docs any;": "rule 2: word 1: no rule",
+	} {
+		request, err := ReadRequest(text)
+		if err != nil {
+			t.Fatal(err)
+		}
+		law, err := request.Law(schema)
+		var fault *Fault
+		if !errors.As(err, &fault) || fault.Errno != api.ErrLaw || err.Error() != where || law != nil {
+			t.Errorf("%q: %v, %v, want %q", text, law, err, where)
 		}
 	}
 }

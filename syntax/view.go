@@ -29,6 +29,7 @@ type View struct {
 	Summed    int        // Sum: the column that is summed
 	Parts     []*View    // what it is over; All: none
 	Types     []Type     // of its own columns
+	Words     string     // its own, and those of what it is over
 }
 
 // ReadView reads a view of the schema's tables. One of too many words is refused ahead of being taken apart, as a text may be of any size.
@@ -57,6 +58,7 @@ func (r *reader) view() (*View, error) {
 	if err != nil {
 		return nil, &Place{Part: "view at word", Number: place, Err: err}
 	}
+	v.Words = strings.Join(r.words[place-1:r.taken], " ")
 	return v, nil
 }
 

@@ -14,7 +14,9 @@ import (
 // The model is a server by the words of the document: rows are lists of words, a table or a view is a list of rows, and each view is worked out anew behind each request and held against what it was.
 
 type model struct {
+	share    bool
 	room     int
+	law      string
 	tables   map[string][][]string
 	sessions map[int]*modelSession
 }
@@ -34,12 +36,13 @@ type modelFrame struct {
 
 type modelSub struct {
 	view   string
+	parts  []string // the words of each part that has a node
 	frames int
 	last   map[string]int
 }
 
-func newModel(room int) *model {
-	return &model{room: room, tables: map[string][][]string{}, sessions: map[int]*modelSession{}}
+func newModel(share bool, room int) *model {
+	return &model{share: share, room: room, tables: map[string][][]string{}, sessions: map[int]*modelSession{}}
 }
 
 func (m *model) Open(session int, who string) api.Errno {
@@ -126,7 +129,7 @@ func (m *model) do(s *modelSession, text string) int {
 		if _, errno := oracleCheck(words[2]); errno != api.OK {
 			return 3
 		}
-		s.subs[number] = &modelSub{view: words[2]}
+		s.subs[number] = &modelSub{view: words[2], parts: partsOf(words[2], s.who)}
 		return 0
 	case "end":
 		if !slices.Contains([]string{"end 0", "end 1", "end 2", "end 3"}, text) {
@@ -148,9 +151,81 @@ func (m *model) do(s *modelSession, text string) int {
 		if s.who != "root" {
 			return 8
 		}
-		return 4
+		law, more := strings.CutPrefix(text, "law ")
+		if more && (law == "" || oracleLaw(law) != api.OK) {
+			return 4
+		}
+		m.law = strings.TrimPrefix(text, "law")
+		m.law = strings.TrimPrefix(m.law, " ")
+		return 0
 	}
 	return 7
+}
+
+// seen is what one may see of a table, by each rule in turn.
+func (m *model) seen(table, who string) [][]string {
+	if who == "root" {
+		return m.tables[table]
+	}
+	got := [][]string{}
+	for _, row := range m.tables[table] {
+		allowed, shown := false, slices.Clone(row)
+		for _, rule := range strings.Split(m.law, ";") {
+			words := strings.Split(rule, " ")
+			if words[0] == "allow" && words[1] == table {
+				holds, _ := m.holds(words[2:], row, who)
+				allowed = allowed || holds
+			}
+			if words[0] == "mask" && words[1] == table {
+				if holds, _ := m.holds(words[4:], row, who); !holds {
+					shown[numberOf(words[2])-1] = words[3]
+				}
+			}
+		}
+		if allowed {
+			got = append(got, shown)
+		}
+	}
+	return got
+}
+
+func (m *model) Nodes() int {
+	all, of := 0, map[string]int{}
+	for _, s := range m.sessions {
+		for _, sub := range s.subs {
+			for _, part := range sub.parts {
+				all++
+				of[s.who+" "+part]++
+			}
+		}
+	}
+	if m.share {
+		return len(tables) + len(of)
+	}
+	return len(tables) + all
+}
+
+// partsOf goes through the words of a view for operators. (No table has the name of one here.)
+func partsOf(view, who string) []string {
+	parts := []string{}
+	for i, word := range strings.Split(view, " ") {
+		if strings.Contains(" keep pick join both count sum ", " "+word+" ") || word == "all" && who != "root" {
+			parts = append(parts, partAt(view, i))
+		}
+	}
+	return parts
+}
+
+// partAt is the shortest run of words from the i-th one on that is a view.
+func partAt(view string, i int) string {
+	words := strings.Split(view, " ")
+	for end := i + 1; end <= len(words); end++ {
+		part := strings.Join(words[i:end], " ")
+		if _, errno := oracleCheck(part); errno == api.OK {
+			return part
+		}
+	}
+	return "none"
 }
 
 func (m *model) write(word, table string, row []string) int {
@@ -260,16 +335,13 @@ func numberOf(word string) int {
 func (m *model) rows(words []string, who string) ([][]string, []string) {
 	switch words[0] {
 	case "all":
-		if who != "root" {
-			return nil, words[2:]
-		}
-		return m.tables[words[1]], words[2:]
+		return m.seen(words[1], who), words[2:]
 	case "keep":
-		_, behind := modelHolds(words[1:], nil, who)
+		_, behind := m.holds(words[1:], nil, who)
 		over, rest := m.rows(behind, who)
 		kept := [][]string{}
 		for _, row := range over {
-			if holds, _ := modelHolds(words[1:], row, who); holds {
+			if holds, _ := m.holds(words[1:], row, who); holds {
 				kept = append(kept, row)
 			}
 		}
@@ -329,17 +401,17 @@ func modelGroups(over [][]string, cols string, worth func([]string) int) [][]str
 	return got
 }
 
-// modelHolds tells whether the condition with which words begin holds for a row, and the words behind it; without a row these alone.
-func modelHolds(words []string, row []string, who string) (bool, []string) {
+// holds tells whether the condition with which words begin holds for a row, and the words behind it; without a row these alone.
+func (m *model) holds(words []string, row []string, who string) (bool, []string) {
 	switch words[0] {
 	case "any":
 		return true, words[1:]
 	case "not":
-		holds, rest := modelHolds(words[1:], row, who)
+		holds, rest := m.holds(words[1:], row, who)
 		return !holds, rest
 	case "and", "or":
-		first, rest := modelHolds(words[1:], row, who)
-		second, rest := modelHolds(rest, row, who)
+		first, rest := m.holds(words[1:], row, who)
+		second, rest := m.holds(rest, row, who)
 		if words[0] == "and" {
 			return first && second, rest
 		}
@@ -350,6 +422,11 @@ func modelHolds(words []string, row []string, who string) (bool, []string) {
 	}
 	own := at(row, words[1])
 	switch words[0] {
+	case "in":
+		found := slices.ContainsFunc(m.tables[words[2]], func(other []string) bool {
+			return at(other, words[3]) == own && at(other, words[4]) == "'"+who+"'"
+		})
+		return found, words[5:]
 	case "eq":
 		return own == words[2] || words[2] == "me" && own == "'"+who+"'", words[3:]
 	case "lt":
@@ -364,6 +441,7 @@ type served interface {
 	Close(session int) api.Errno
 	Feed(session int, bytes string) api.Errno
 	Drain(session int, most int) (string, api.Errno)
+	Nodes() int
 }
 
 // pairOf is a server and a model that are told the same and must answer the same.
@@ -376,7 +454,7 @@ type pairOf struct {
 }
 
 func newPair(t testing.TB, share bool, room int) *pairOf {
-	return &pairOf{t: t, server: start(t, share, room), model: newModel(room)}
+	return &pairOf{t: t, server: start(t, share, room), model: newModel(share, room)}
 }
 
 func (p *pairOf) same(call string, ask func(s served) (string, api.Errno)) {
@@ -386,6 +464,9 @@ func (p *pairOf) same(call string, ask func(s served) (string, api.Errno)) {
 	want, wanted := ask(p.model)
 	if got != want || errno != wanted {
 		p.t.Fatalf("%s\n= %q, %d,\nwant %q, %d", strings.Join(p.calls, "\n"), got, errno, want, wanted)
+	}
+	if got, want := p.server.Nodes(), p.model.Nodes(); got != want {
+		p.t.Fatalf("%s\n: %d nodes, want %d", strings.Join(p.calls, "\n"), got, want)
 	}
 	p.heard.WriteString(got)
 }
@@ -416,27 +497,62 @@ func (m maker) rightView() string {
 	}
 }
 
+// rightLaw is a law that is one.
+func (m maker) rightLaw() string {
+	for {
+		law := m.law()
+		switch m.Intn(4) {
+		case 0:
+			law = "allow " + m.one("docs", "team") + " any;" + law
+		case 1:
+			law = "allow team " + m.one("or ", "and ") + m.look() + " " + m.look() + ";mask team 1 'x' " + m.look() + ";allow docs not " + m.look()
+		}
+		if oracleLaw(law) == api.OK {
+			return law
+		}
+	}
+}
+
+// look is an `in` that may be right.
+func (m maker) look() string {
+	return "in " + m.one("1", "2") + " " + m.one("docs", "team", "team") + " " + m.one("1", "2") + " " + m.one("1", "2")
+}
+
 func (m maker) row() string {
 	if m.Intn(2) == 0 {
-		return "docs " + m.one("0", "5", "-7", "5") + " " + m.one("'x'", "''", "'root'", "'x'")
+		return "docs " + m.one("0", "5", "-7", "5") + " " + m.one("'x'", "''", "'ann'", "'x'")
 	}
-	return "team " + m.one("'x'", "''", "'root'") + " " + m.one("'x'", "'a_1'")
+	return "team " + m.one("'x'", "''", "'bob'") + " " + m.one("'ann'", "'bob'", "'x'")
+}
+
+// write is a request of root.
+func (m maker) write() string {
+	switch m.Intn(14) {
+	case 0, 1, 2, 3, 4, 5:
+		return "put " + m.row()
+	case 6, 7, 8, 9:
+		return "del " + m.row()
+	case 10, 11:
+		return "law " + m.rightLaw()
+	case 12:
+		return m.one("law", "law ", "law x", "law "+m.spoil(m.law()), "law allow docs any;allow team any")
+	}
+	return m.one("put docs 1", "put", "del docs x", "put x 1", m.spoil("put "+m.row()))
 }
 
 func (m maker) request() string {
-	switch m.Intn(12) {
-	case 0, 1, 2, 3:
-		return "put " + m.row()
-	case 4, 5, 6:
-		return "del " + m.row()
-	case 7, 8:
-		return "sub " + m.one("0", "1", "2", "3") + " " + m.rightView()
-	case 9:
-		return "end " + m.one("0", "1", "2", "3")
-	case 10:
-		return "sub " + m.one("0", "1", "2", "3", "4") + " " + m.spoil(m.view(m.Intn(3)))
+	number := m.one("0", "1", "2", "3")
+	switch m.Intn(10) {
+	case 0, 1, 2, 3, 4:
+		return "sub " + number + " " + m.rightView()
+	case 5, 6:
+		return "end " + number
+	case 7:
+		return "sub " + m.one(number, "4") + " " + m.spoil(m.view(m.Intn(3)))
+	case 8:
+		return m.one("x", "sub", "end", "end 0 ", " ", "sub 0")
 	}
-	return m.one("x", "law", "law x", "put docs 1", "put", "del docs x", "sub", "end", "end 0 ", "put x 1", " ", m.spoil("put "+m.row()))
+	return m.write()
 }
 
 // live does some random thing to both.
@@ -444,7 +560,7 @@ func (m maker) live(p *pairOf, rest map[int]string) {
 	session := m.Intn(4)
 	switch m.Intn(20) {
 	case 0:
-		p.open(m.Intn(10)-1, m.one("root", "root", "ann", "bob", "", "Ann"))
+		p.open(m.Intn(10)-1, m.one("root", "ann", "ann", "bob", "", "Ann"))
 	case 1:
 		if m.Intn(4) == 0 {
 			p.close(session)
@@ -459,7 +575,11 @@ func (m maker) live(p *pairOf, rest map[int]string) {
 	case 7:
 		p.drain(session, 1000)
 	default:
-		bytes := rest[session] + framed(m.request())
+		request := m.request()
+		if m.Intn(2) == 0 {
+			session, request = 0, m.write()
+		}
+		bytes := rest[session] + framed(request)
 		cut := len(bytes)
 		if m.Intn(3) == 0 {
 			cut = m.Intn(len(bytes))
@@ -475,7 +595,7 @@ func TestServersAgainstTheModel(t *testing.T) {
 	for round := range 300 {
 		p := newPair(t, m.Intn(2) == 0, 1+m.Intn(api.MaxRoom))
 		rest := map[int]string{}
-		for i, who := range []string{"root", "root", "ann", "root"} {
+		for i, who := range []string{"root", "ann", "bob", "ann"} {
 			p.open(i, who)
 		}
 		for range 10 + 4*round {
@@ -484,7 +604,7 @@ func TestServersAgainstTheModel(t *testing.T) {
 		for session := range api.MaxSessions {
 			p.drain(session, 100000)
 		}
-		for _, word := range []string{"snap ", "delta ", "reset ", "bye", "ok", "no 3", "no 7", "no 8", "no 9", "no 10", "no 11", "no 12"} {
+		for _, word := range []string{"snap ", "delta ", "reset ", "bye", "ok", "no 3", "no 4", "no 7", "no 8", "no 9", "no 10", "no 11", "no 12"} {
 			heard[word] += strings.Count(p.heard.String(), word)
 		}
 	}
@@ -500,14 +620,16 @@ func FuzzServer(f *testing.F) {
 	for _, text := range []string{
 		"0sub 0 all docs\n1put docs 1 'a'\n0del docs 1 'a'\n1sub 3 count - all docs",
 		"0sub 0 join 1 1 all docs all docs\n0put docs 5 'x'\n0put docs 5 'x'\n0end 0\n2put docs 1 'a'",
-		"2sub 1 all docs\n1law allow docs any\n0\n1put docs 1 'a'",
+		"2sub 1 all docs\n1law allow docs any\n0\n0put docs 1 'a'\n0law",
+		"1sub 0 join 2 1 all docs all team\n0law allow docs in 2 team 1 2;mask docs 1 0 eq 2 'x';allow team any\n0put docs 1 'x'\n0put team 'x' 'ann'\n2sub 0 both all docs all docs\n0del team 'x' 'ann'",
+		"0law allow docs in 2 docs 2 2;mask docs 2 '' in 2 docs 2 2\n1sub 3 sum 1 2 all docs\n0put docs 4 'ann'\n0put docs 4 'ann'\n0del docs 4 'ann'\n2sub 1 count - all docs\n0law ",
 	} {
 		f.Add(text, uint8(2))
 		f.Add(text, uint8(9))
 	}
 	f.Fuzz(func(t *testing.T, text string, size uint8) {
 		p := newPair(t, size%2 == 0, 1+int(size)%api.MaxRoom)
-		for i, who := range []string{"root", "root", "ann"} {
+		for i, who := range []string{"root", "ann", "bob", "ann"} {
 			p.open(i, who)
 		}
 		for _, line := range strings.SplitN(text, "\n", 40) {
@@ -520,7 +642,7 @@ func FuzzServer(f *testing.F) {
 			p.feed(session, bytes[:cut])
 			p.feed(session, bytes[cut:])
 		}
-		for session := range 3 {
+		for session := range 4 {
 			p.drain(session, int(size)/16)
 			p.drain(session, 1000)
 		}

@@ -39,7 +39,7 @@ func (s *Server) do(from *session, text string) api.Errno {
 	case "del":
 		return s.del(request)
 	}
-	return api.ErrLaw
+	return s.law(request)
 }
 
 func (s *Server) sub(from *session, request syntax.Request) api.Errno {
@@ -83,6 +83,15 @@ func (s *Server) del(request syntax.Request) api.Errno {
 		return api.ErrNone
 	}
 	s.graph.Change(table, row, -1)
+	return api.OK
+}
+
+func (s *Server) law(request syntax.Request) api.Errno {
+	law, err := request.Law(s.schema)
+	if err != nil {
+		return errnoOf(err)
+	}
+	s.graph.Rule(law)
 	return api.OK
 }
 

@@ -344,3 +344,33 @@ func TestServersSideBySide(t *testing.T) {
 	}
 	group.Wait()
 }
+
+// And so with rules, where several have much to hear at once.
+func TestServersWithRulesSideBySide(t *testing.T) {
+	names := []string{"root", "ann", "bob", "eve", "ann", "bob", "a", "b"}
+	history := func(share bool) string {
+		s := start(t, share, 2, names...)
+		for session := range names {
+			say(t, s, session, "sub 0 all docs", "sub 1 count 2 join 2 1 all docs all team", "sub 2 both all docs all docs")
+		}
+		heard := ""
+		for i, request := range append(append([]string{"law allow docs in 2 team 1 2;allow team any;mask docs 1 0 eq 2 me"}, seenRows...), "law allow docs any", "del docs 3 'x'", "law allow docs in 2 docs 2 2", "put docs 1 'bob'", "law") {
+			say(t, s, 0, request)
+			for session := range names {
+				bytes, _ := s.Drain(session, i%4)
+				heard += bytes
+			}
+		}
+		return heard
+	}
+	want := history(true)
+	var group sync.WaitGroup
+	for i := range 16 {
+		group.Go(func() {
+			if got := history(i%2 == 0); got != want {
+				t.Errorf("%q, want %q", got, want)
+			}
+		})
+	}
+	group.Wait()
+}

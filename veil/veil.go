@@ -56,7 +56,7 @@ type Server struct {
 	sessions [api.MaxSessions]*session // nil: not open
 }
 
-// New makes a server (P6). What share is can only be seen by Nodes (P15), which is not built yet.
+// New makes a server (P6).
 func New(schema string, share bool, room int) (*Server, api.Errno) {
 	tables, err := syntax.ReadSchema(schema)
 	if err != nil {
@@ -65,7 +65,7 @@ func New(schema string, share bool, room int) (*Server, api.Errno) {
 	if room < 1 || room > api.MaxRoom {
 		return nil, api.ErrRoom
 	}
-	return &Server{schema: tables, room: room, graph: graph.New(tables)}, api.OK
+	return &Server{schema: tables, room: room, graph: graph.New(tables, share)}, api.OK
 }
 
 // Open opens a session (P7).
@@ -117,7 +117,7 @@ func (s *Server) Drain(session int, most int) (string, api.Errno) {
 }
 
 // Nodes tells how many nodes there are (P15).
-func (s *Server) Nodes() int { return 0 }
+func (s *Server) Nodes() int { return s.graph.Nodes() }
 
 func isSession(number int) bool { return number >= 0 && number < api.MaxSessions }
 
